@@ -1,0 +1,1 @@
+"""Timerdeque: which timer of a wheel fires first."""
