@@ -1,6 +1,7 @@
 """The examples at the end of the document, as they stand there."""
 
 import doctest
+import re
 import unittest
 
 EXAMPLES = [
@@ -54,18 +55,91 @@ EXAMPLES = [
 >>> wheel.advance(105)
 [(100, [0]), (105, [1, 0])]
 """,
+    """
+>>> from timerdeque.moves import costliest, moves_in
+>>> [moves_in(10, 0, 1, 100), costliest(10, 0, 1, 100)]
+[180, (2, 11)]
+""",
+    """
+>>> from timerdeque.periods import common
+>>> [common((1, 4), (3, 6)), common((0, 2), (1, 2))]
+[(9, 12), None]
+""",
+    """
+>>> from timerdeque.periods import first_of_two
+>>> first_of_two(10, ["stack"], (0, 4), (0, 6), 12)
+1
+""",
+    """
+>>> from timerdeque.plans import set_ticks
+>>> [set_ticks(10, ["stack"], 0, 205, [1, 0]), set_ticks(10, ["stack"], 0, 205, [0, 2, 1])]
+[('ticks', [0, 200]), ('never', 2)]
+""",
+    """
+>>> from timerdeque.plans import told_apart
+>>> [told_apart(10, ["queue", "stack"], 10, ["queue"]), told_apart(2, ["queue"], 7, ["queue"])]
+[('apart', 10, 0), ('alike',)]
+""",
+    """
+>>> from timerdeque.wheel import Wheel
+>>> Wheel(1, ["stack"])
+raises NoBase
+""",
+    """
+>>> from timerdeque.wheel import Wheel
+>>> wheel = Wheel(10, ["stack"], start=5)
+>>> wheel.put(5)
+raises NoTick
+""",
+    """
+>>> from timerdeque.wheel import Wheel
+>>> wheel = Wheel(10, ["stack"])
+>>> wheel.cancel(0)
+raises NoTimer
+""",
+    """
+>>> from timerdeque.wheel import Wheel
+>>> wheel = Wheel(10, ["stack", "stack"], start=3)
+>>> first = wheel.put(205)
+>>> wheel.snapshot()
+(10, ['stack'], 3, 1, [(0, 205, None)])
+""",
+    """
+>>> from timerdeque.wheel import Wheel
+>>> wheel = Wheel(10, ["stack"], start=3)
+>>> first = wheel.put(205)
+>>> [wheel.next_event(), wheel.next_firing(), wheel.moves_until(199), wheel.moves_until(200)]
+[200, 205, 0, 1]
+""",
+    """
+>>> from timerdeque.periods import order_at
+>>> order_at(10, ["stack"], [(0, 4), (0, 6), (0, 3)], 12)
+[1, 0, 2]
+""",
 ]
+
+
+def as_doctest(text):
+    """The last line of an example may be "raises" and the name of an error."""
+    return re.sub(r"(?m)^raises (\w+)$", r"Traceback (most recent call last):\n\1: ...", text)
 
 
 class Examples(unittest.TestCase):
     def test_each(self):
         for number, text in enumerate(EXAMPLES):
             with self.subTest(number):
-                test = doctest.DocTestParser().get_doctest(text, {}, "DOC.md", "DOC.md", 0)
+                test = doctest.DocTestParser().get_doctest(as_doctest(text), {}, "DOC.md", "DOC.md", 0)
+                runner = doctest.DocTestRunner(verbose=False, optionflags=doctest.IGNORE_EXCEPTION_DETAIL)
                 told = []
-                results = doctest.DocTestRunner(verbose=False).run(test, out=told.append)
+                results = runner.run(test, out=told.append)
                 self.assertGreater(results.attempted, 0)
                 self.assertEqual(results.failed, 0, "".join(told))
+
+    def test_a_wrong_error_is_seen(self):
+        text = ">>> from timerdeque.wheel import Wheel\n>>> Wheel(1, ['stack'])\nraises NoTick\n"
+        test = doctest.DocTestParser().get_doctest(as_doctest(text), {}, "DOC.md", "DOC.md", 0)
+        runner = doctest.DocTestRunner(verbose=False, optionflags=doctest.IGNORE_EXCEPTION_DETAIL)
+        self.assertEqual(runner.run(test, out=[].append).failed, 1)
 
 
 if __name__ == "__main__":

@@ -43,3 +43,28 @@ def not_periods():
 def not_timers():
     """What no wheel with fewer than a thousand timers knows as a number."""
     return not_integers() + [-1, 1000, 10 ** 50]
+
+
+def not_periodic():
+    """What is not a tuple of a phase >= 0 and a period >= 1."""
+    phases = [-1, -10 ** 59, True, False, None, "0", b"0", 0.0, (), (0,), [], [0], {}, {0}, Wheel(2, ["queue"])]
+    periods = [0, -1, -10 ** 59, True, False, None, "4", b"4", 4.0, (), (4,), [], [4], {}, {4}, Wheel(2, ["queue"])]
+    return not_integers() + [
+        5, [0, 4], (0, 4, 4), ((0, 4),), [(0, 4)], {0: 4}, {0, 4}, frozenset([0, 4]), "04", b"\x00\x04", range(0, 8, 4),
+    ] + [(phase, 4) for phase in phases] + [(0, period) for period in periods] + [(None, None), (-1, 0)]
+
+
+def not_several():
+    """What is not a list of one or more periodic timers with different periods."""
+    return not_integers() + [
+        5, (), ((0, 4),), ((0, 4), (0, 6)), {(0, 4)}, {0: 4}, [(0, 4), (0, 4)], [(0, 4), (1, 6), (3, 4)],
+    ] + [[given] for given in not_periodic()] + [[(0, 99), given] for given in not_periodic()]
+
+
+def not_orders():
+    """What is not a list of the numbers from 0 to m - 1, each once."""
+    return others() + [
+        None, 0, (0,), (0, 1), [1], [-1], [0, 0], [1, 1], [0, 2], [1, 2], [0, -1], [1, 0, 1], [0, 1, 3], [2, 0, 0],
+        [False], [0, True], [True, False], [False, 1], [0, True, 2], [0.0], [0, 1.0], [None], [0, None], ["0"], [0, "1"],
+        [b"0"], [[0]], [0, [1]], [(0,)], [0, {}], [0, {1}], [0, 10 ** 59], [0, Wheel(2, ["queue"])], "0", range(2),
+    ]

@@ -46,6 +46,24 @@ def goes_in_front(base, levels, now, due, lowest):
     return front
 
 
+def with_timer(numbers, number, front):
+    """A list of timers with one more, at the front or at the end."""
+    if front:
+        return [number] + numbers
+    return numbers + [number]
+
+
+def firing_order(base, levels, due, settings):
+    """The timers of one due tick in the order in which they fire.
+
+    `settings` are tuples (number, now) in the order in which the timers were set.
+    """
+    numbers = []
+    for number, now in settings:
+        numbers = with_timer(numbers, number, goes_in_front(base, levels, now, due, 0))
+    return numbers
+
+
 def stations(base, now, due):
     """The lists in which a timer set at `now` stands, as tuples (level, digit, tick), highest first."""
     check_base(base)

@@ -7,7 +7,7 @@ stands at any tick, and on which side of the timers that were set before it.
 """
 
 from timerdeque.checks import check_base, check_levels, check_tick, is_integer
-from timerdeque.digits import goes_in_front, level_and_size, path, word_at
+from timerdeque.digits import firing_order, goes_in_front, level_and_size, path, with_timer, word_at
 from timerdeque.errors import NoPeriod, NoTimer, TooMany
 
 MOST_FIRINGS = 2000
@@ -27,20 +27,10 @@ def check_period(period):
         raise NoPeriod("a period is None or an integer >= 1")
 
 
-def with_timer(numbers, number, front):
-    """A list of timers with one more, at the front or at the end."""
-    if front:
-        return [number] + numbers
-    return numbers + [number]
-
-
 def order_of_firing(base, levels, live, tick):
     """The timers that are due at a tick, in the order in which they fire."""
-    numbers = []
-    for number, (due, period, since) in live.items():
-        if due == tick:
-            numbers = with_timer(numbers, number, goes_in_front(base, levels, since, due, 0))
-    return numbers
+    settings = [(number, since) for number, (due, period, since) in live.items() if due == tick]
+    return firing_order(base, levels, tick, settings)
 
 
 def standing(base, levels, live, tick):
