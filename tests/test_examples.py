@@ -81,6 +81,16 @@ EXAMPLES = [
 [('apart', 10, 0), ('alike',)]
 """,
     """
+>>> from timerdeque.seen import levels_seen
+>>> levels_seen(10, 2, [(0, 12, "front"), (0, 5, "back")])
+('levels', ['queue', 'stack'], 1)
+""",
+    """
+>>> from timerdeque.seen import levels_seen
+>>> levels_seen(10, 2, [(0, 12, "front"), (0, 5, "back"), (3, 20, "back")])
+('none', 3)
+""",
+    """
 >>> from timerdeque.wheel import Wheel
 >>> Wheel(1, ["stack"])
 raises NoBase
@@ -96,6 +106,12 @@ raises NoTick
 >>> wheel = Wheel(10, ["stack"])
 >>> wheel.cancel(0)
 raises NoTimer
+""",
+    """
+>>> from timerdeque.desk import Desk
+>>> desk = Desk(10, ["stack"], start=3)
+>>> [desk.say("put 205"), desk.say("go 150"), desk.say("put 205"), desk.say("lists"), desk.say("go 300")]
+['0', 'nothing', '1', '2.2: 1 0', '205: 0 1']
 """,
     """
 >>> from timerdeque.wheel import Wheel

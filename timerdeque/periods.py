@@ -1,6 +1,6 @@
 """Periodic timers as tuples (phase, period): when they meet, and which fires first there."""
 
-from timerdeque.checks import check_base, check_levels, check_tick, is_integer
+from timerdeque.checks import check_base, check_levels, check_tick, is_period, is_tick
 from timerdeque.digits import firing_order, goes_in_front
 from timerdeque.errors import NoPeriod, NoTick, TooMany
 
@@ -12,7 +12,7 @@ def is_periodic(given):
     if not isinstance(given, tuple) or len(given) != 2:
         return False
     phase, period = given
-    return is_integer(phase) and phase >= 0 and is_integer(period) and period >= 1
+    return is_tick(phase) and is_period(period)
 
 
 def check_periodic(given):

@@ -6,7 +6,7 @@ at which the timer was set. The digits of these ticks tell in which list a timer
 stands at any tick, and on which side of the timers that were set before it.
 """
 
-from timerdeque.checks import check_base, check_levels, check_tick, is_integer
+from timerdeque.checks import check_base, check_levels, check_tick, is_integer, is_period
 from timerdeque.digits import firing_order, goes_in_front, level_and_size, path, with_timer, word_at
 from timerdeque.errors import NoPeriod, NoTimer, TooMany
 
@@ -23,7 +23,7 @@ def without_repeats(levels):
 
 def check_period(period):
     """Raise NoPeriod unless this is None or a period."""
-    if period is not None and (not is_integer(period) or period < 1):
+    if period is not None and not is_period(period):
         raise NoPeriod("a period is None or an integer >= 1")
 
 
